@@ -6,12 +6,15 @@ import (
 
 	"custumal/api"
 	"custumal/codec"
+	"custumal/edwards"
+	"custumal/field"
 	"custumal/hmac"
+	"custumal/scalar"
 	"custumal/sha2"
 	"custumal/sha5"
 )
 
-// The calls of layers 1 to 4 have just these signatures; what doesn't have them doesn't build.
+// The calls of layers 1 to 7 have just these signatures; what doesn't have them doesn't build.
 var (
 	_ func(...[]byte) [32]byte         = sha2.Sum
 	_ func() *sha2.Hash                = sha2.New
@@ -39,6 +42,40 @@ var (
 	_ func(*codec.Reader, int) []byte         = (*codec.Reader).Text
 	_ func(*codec.Reader) int                 = (*codec.Reader).Left
 	_ func(*codec.Reader) api.Errno           = (*codec.Reader).End
+
+	_ func([32]byte) field.Elem                  = field.Of
+	_ func(field.Elem) [32]byte                  = field.Bytes
+	_ func(uint64) field.Elem                    = field.Small
+	_ func(field.Elem) field.Elem                = field.Rest
+	_ func(a, b field.Elem) field.Elem           = field.Add
+	_ func(a, b field.Elem) field.Elem           = field.Sub
+	_ func(a, b field.Elem) field.Elem           = field.Mul
+	_ func(field.Elem) field.Elem                = field.Neg
+	_ func(a field.Elem, n [4]uint64) field.Elem = field.Pow
+	_ func(field.Elem) field.Elem                = field.Inv
+	_ func(u, v field.Elem) (field.Elem, bool)   = field.Root
+	_ func(a, b field.Elem) bool                 = field.Same
+	_ func(field.Elem) bool                      = field.Odd
+	_ [4]uint64                                  = field.Elem{}
+
+	_ func() scalar.Num                 = scalar.Order
+	_ func([]byte) scalar.Num           = scalar.Of
+	_ func([32]byte) (scalar.Num, bool) = scalar.Canon
+	_ func(scalar.Num) [32]byte         = scalar.Bytes
+	_ func(a, b scalar.Num) scalar.Num  = scalar.Add
+	_ func(a, b scalar.Num) scalar.Num  = scalar.Mul
+	_ func(scalar.Num) scalar.Num       = scalar.Neg
+	_ func([32]byte) [32]byte           = scalar.Clamp
+	_ [4]uint64                         = scalar.Num{}
+
+	_ func() edwards.Point                        = edwards.Base
+	_ func([32]byte) (edwards.Point, api.Errno)   = edwards.Decode
+	_ func(edwards.Point) [32]byte                = edwards.Point.Encode
+	_ func(p, q edwards.Point) edwards.Point      = edwards.Point.Add
+	_ func(edwards.Point) edwards.Point           = edwards.Point.Neg
+	_ func(edwards.Point, [32]byte) edwards.Point = edwards.Point.Times
+	_ func(edwards.Point) edwards.Point           = edwards.Point.Eight
+	_ func(p, q edwards.Point) bool               = edwards.Point.Same
 )
 
 // Each call of layers 1 to 4 ends without a panic at nil objects, zero values, nil and empty lists, and numbers far out (P1).
@@ -82,6 +119,56 @@ func TestNoCallPanics(t *testing.T) {
 	}
 }
 
+// fours: four parts each of which is nought, one, or the most; the prime and the order are among them too.
+func fours() [][4]uint64 {
+	all := [][4]uint64{
+		scalar.Order(), field.Neg(field.Small(1)),
+		{math.MaxUint64 - 18, math.MaxUint64, math.MaxUint64, math.MaxUint64 >> 1},
+	}
+	words := [3]uint64{0, 1, math.MaxUint64}
+	for i := range 81 {
+		all = append(all, [4]uint64{words[i%3], words[i/3%3], words[i/9%3], words[i/27]})
+	}
+	return all
+}
+
+// Each call of layers 5 to 7 ends without a panic at all kinds of numbers, and at the zero value of a point (P1).
+func TestNoCallOfNumbersPanics(t *testing.T) {
+	all := fours()
+	for i, a := range all {
+		b := all[(7*i+3)%len(all)]
+		field.Rest(a)
+		field.Add(a, b)
+		field.Sub(a, b)
+		field.Mul(a, b)
+		field.Neg(a)
+		field.Pow(a, b)
+		field.Inv(a)
+		field.Root(a, b)
+		field.Same(a, b)
+		field.Odd(a)
+		field.Small(a[0])
+		scalar.Add(a, b)
+		scalar.Mul(a, b)
+		scalar.Neg(a)
+		for _, bytes := range [][32]byte{field.Bytes(a), scalar.Bytes(a), {31: byte(i)}, {byte(i), 31: 255}} {
+			field.Of(bytes)
+			scalar.Of(bytes[:])
+			scalar.Of(bytes[:i%32])
+			scalar.Canon(bytes)
+			scalar.Clamp(bytes)
+			p, _ := edwards.Decode(bytes)
+			for _, q := range []edwards.Point{p, {}, edwards.Base()} {
+				q.Add(p).Encode()
+				q.Neg().Same(p)
+				q.Times(bytes)
+				q.Eight()
+			}
+		}
+	}
+	scalar.Of(nil)
+}
+
 // The same calls tell the same, whatever was called between (rule 5).
 func TestAnswersHangOnArgumentsAlone(t *testing.T) {
 	tell := func() (all [][]byte) {
@@ -89,10 +176,14 @@ func TestAnswersHangOnArgumentsAlone(t *testing.T) {
 		var w codec.Writer
 		w.Text([]byte("a"))
 		d, _ := w.Bytes()
-		return append(all, a[:], b[:], c[:], d)
+		root, _ := field.Root(field.Small(4), field.Small(5))
+		e, f := field.Bytes(root), scalar.Bytes(scalar.Mul(scalar.Of(b[:]), scalar.Of(a[:])))
+		g := edwards.Base().Times(a).Encode()
+		return append(all, a[:], b[:], c[:], d, e[:], f[:], g[:])
 	}
 	first := tell()
 	TestNoCallPanics(t)
+	TestNoCallOfNumbersPanics(t)
 	for i, b := range tell() {
 		if string(b) != string(first[i]) {
 			t.Errorf("answer %d is another one", i)
