@@ -12,9 +12,11 @@ import (
 	"custumal/scalar"
 	"custumal/sha2"
 	"custumal/sha5"
+	"custumal/sign"
+	"custumal/vrf"
 )
 
-// The calls of layers 1 to 7 have just these signatures; what doesn't have them doesn't build.
+// The calls of layers 1 to 9 have just these signatures; what doesn't have them doesn't build.
 var (
 	_ func(...[]byte) [32]byte         = sha2.Sum
 	_ func() *sha2.Hash                = sha2.New
@@ -76,6 +78,16 @@ var (
 	_ func(edwards.Point, [32]byte) edwards.Point = edwards.Point.Times
 	_ func(edwards.Point) edwards.Point           = edwards.Point.Eight
 	_ func(p, q edwards.Point) bool               = edwards.Point.Same
+
+	_ func([32]byte) sign.Secret                                   = sign.Spread
+	_ func([32]byte, []byte) [64]byte                              = sign.Sign
+	_ func(public [32]byte, text []byte, sig [64]byte) api.Errno   = sign.Verify
+	_ struct{ Number, Draw, Public [32]byte }                      = sign.Secret{}
+	_ func(seed [32]byte, text []byte) ([80]byte, api.Errno)       = vrf.Prove
+	_ func([32]byte, []byte, [80]byte) (sum [64]byte, _ api.Errno) = vrf.Check
+	_ func([80]byte) (sum [64]byte, _ api.Errno)                   = vrf.Sum
+	_ func([64]byte) [32]byte                                      = vrf.Index
+	_ [80]byte                                                     = [vrf.Size]byte{}
 )
 
 // Each call of layers 1 to 4 ends without a panic at nil objects, zero values, nil and empty lists, and numbers far out (P1).
@@ -169,6 +181,32 @@ func TestNoCallOfNumbersPanics(t *testing.T) {
 	scalar.Of(nil)
 }
 
+// Each call of layers 8 and 9 ends without a panic at all kinds of bytes, points' and numbers' and others, and at all texts (P1).
+func TestNoCallOfSignaturesPanics(t *testing.T) {
+	texts := [][]byte{nil, {}, {0}, make([]byte, 65537)}
+	all := [][32]byte{{}, {1}, {2}, {1, 31: 0x80}, edwards.Base().Encode(), scalar.Bytes(scalar.Neg(scalar.Num{1})), {}}
+	for i := range all[6] {
+		all[6][i] = 0xff
+	}
+	for i, a := range all {
+		sign.Spread(a)
+		for j, b := range all {
+			text := texts[(i+j)%len(texts)]
+			sign.Sign(a, text)
+			vrf.Prove(a, text)
+			for _, c := range all {
+				sig, proof := [64]byte{}, [vrf.Size]byte{}
+				copy(sig[copy(sig[:], b[:]):], c[:])
+				copy(proof[copy(proof[:], b[:])+16:], c[:])
+				sign.Verify(a, text, sig)
+				vrf.Check(a, text, proof)
+				vrf.Sum(proof)
+				vrf.Index(sig)
+			}
+		}
+	}
+}
+
 // The same calls tell the same, whatever was called between (rule 5).
 func TestAnswersHangOnArgumentsAlone(t *testing.T) {
 	tell := func() (all [][]byte) {
@@ -179,11 +217,15 @@ func TestAnswersHangOnArgumentsAlone(t *testing.T) {
 		root, _ := field.Root(field.Small(4), field.Small(5))
 		e, f := field.Bytes(root), scalar.Bytes(scalar.Mul(scalar.Of(b[:]), scalar.Of(a[:])))
 		g := edwards.Base().Times(a).Encode()
-		return append(all, a[:], b[:], c[:], d, e[:], f[:], g[:])
+		h, i := sign.Spread(a), sign.Sign(a, d)
+		j, _ := vrf.Prove(a, d)
+		k, _ := vrf.Check(h.Public, d, j)
+		return append(all, a[:], b[:], c[:], d, e[:], f[:], g[:], h.Public[:], i[:], j[:], k[:])
 	}
 	first := tell()
 	TestNoCallPanics(t)
 	TestNoCallOfNumbersPanics(t)
+	TestNoCallOfSignaturesPanics(t)
 	for i, b := range tell() {
 		if string(b) != string(first[i]) {
 			t.Errorf("answer %d is another one", i)
