@@ -6,9 +6,12 @@ import (
 
 	"custumal/api"
 	"custumal/codec"
+	"custumal/disk"
 	"custumal/edwards"
+	"custumal/extent"
 	"custumal/field"
 	"custumal/hmac"
+	"custumal/journal"
 	"custumal/scalar"
 	"custumal/sha2"
 	"custumal/sha5"
@@ -16,7 +19,7 @@ import (
 	"custumal/vrf"
 )
 
-// The calls of layers 1 to 9 have just these signatures; what doesn't have them doesn't build.
+// The calls of layers 1 to 12 have just these signatures; what doesn't have them doesn't build.
 var (
 	_ func(...[]byte) [32]byte         = sha2.Sum
 	_ func() *sha2.Hash                = sha2.New
@@ -88,6 +91,34 @@ var (
 	_ func([80]byte) (sum [64]byte, _ api.Errno)                   = vrf.Sum
 	_ func([64]byte) [32]byte                                      = vrf.Index
 	_ [80]byte                                                     = [vrf.Size]byte{}
+
+	_ func(blocks int) (*disk.Disk, api.Errno)          = disk.New
+	_ func(*disk.Disk) int                              = (*disk.Disk).Size
+	_ func(d *disk.Disk, i int) (disk.Block, api.Errno) = (*disk.Disk).Read
+	_ func(*disk.Disk, int, disk.Block) api.Errno       = (*disk.Disk).Write
+	_ func(*disk.Disk) api.Errno                        = (*disk.Disk).Sync
+	_ func(d *disk.Disk, n int)                         = (*disk.Disk).Arm
+	_ func(*disk.Disk) bool                             = (*disk.Disk).Down
+	_ func(d *disk.Disk, keep []bool)                   = (*disk.Disk).Crash
+	_ func(*disk.Disk) int                              = (*disk.Disk).Writes
+	_ func(*disk.Disk) int                              = (*disk.Disk).Waiting
+	_ [128]byte                                         = disk.Block{}
+
+	_ func(size int) int                                                                   = journal.Blocks
+	_ func(d *disk.Disk, first, size int) api.Errno                                        = journal.Format
+	_ func(d *disk.Disk, first, size int) (_ *journal.Journal, recs [][]byte, _ api.Errno) = journal.Open
+	_ func(*journal.Journal, []byte) api.Errno                                             = (*journal.Journal).Append
+	_ func(*journal.Journal) int                                                           = (*journal.Journal).Len
+	_ func(*journal.Journal) int                                                           = (*journal.Journal).Room
+	_ [117]byte                                                                            = [journal.Part]byte{}
+
+	_ func(d *disk.Disk, first, count, size int) (*extent.Extents, api.Errno) = extent.New
+	_ func(*extent.Extents) int                                               = (*extent.Extents).Count
+	_ func(x *extent.Extents, i int) (first, size int, _ api.Errno)           = (*extent.Extents).Area
+	_ func(x *extent.Extents, block int) int                                  = (*extent.Extents).Of
+	_ func(x *extent.Extents, i int) api.Errno                                = (*extent.Extents).Zero
+	_ func(x *extent.Extents, i int) (bool, api.Errno)                        = (*extent.Extents).Clear
+	_ func(*extent.Extents) ([]int, api.Errno)                                = (*extent.Extents).Foul
 )
 
 // Each call of layers 1 to 4 ends without a panic at nil objects, zero values, nil and empty lists, and numbers far out (P1).
@@ -207,6 +238,63 @@ func TestNoCallOfSignaturesPanics(t *testing.T) {
 	}
 }
 
+// disks: none, one that New didn't make, new ones, one whose records go to its end, and one whose power is off.
+func disks() []*disk.Disk {
+	one, _ := disk.New(1)
+	full, _ := disk.New(3)
+	j, _, _ := journal.Open(full, 0, 3)
+	j.Append(make([]byte, 351))
+	off, _ := disk.New(2)
+	off.Arm(1)
+	off.Write(1, disk.Block{1})
+	return []*disk.Disk{nil, {}, one, full, off}
+}
+
+// Each call of layers 10 to 12 ends without a panic at nil objects, zero values, numbers far out, and while the power is off (P1).
+func TestNoCallOfBlocksPanics(t *testing.T) {
+	numbers := []int{math.MinInt, math.MinInt + 1, -1, 0, 1, 2, 3, 117, 65535, 65536, 1 << 32, math.MaxInt - 1, math.MaxInt}
+	texts := [][]byte{nil, {}, {1}, make([]byte, 118), make([]byte, 65535), make([]byte, 65536)}
+	for _, n := range numbers {
+		disk.New(n)
+		journal.Blocks(n)
+		for _, d := range disks() {
+			for _, m := range numbers {
+				j, _, _ := journal.Open(d, n, m)
+				for _, j := range []*journal.Journal{j, {}} {
+					for _, text := range texts {
+						j.Append(text)
+					}
+					j.Len()
+					j.Room()
+				}
+				journal.Format(d, n, m)
+				for _, k := range numbers {
+					x, _ := extent.New(d, n, m, k)
+					for _, x := range []*extent.Extents{x, {}} {
+						x.Count()
+						x.Area(k)
+						x.Of(k)
+						x.Zero(k)
+						x.Clear(k)
+						x.Foul()
+					}
+				}
+			}
+			d.Arm(n)
+			d.Read(n)
+			d.Write(n, disk.Block{1})
+			d.Sync()
+			d.Size()
+			d.Down()
+			d.Writes()
+			d.Waiting()
+			d.Crash(nil)
+			d.Write(0, disk.Block{1})
+			d.Crash([]bool{true, true, true})
+		}
+	}
+}
+
 // The same calls tell the same, whatever was called between (rule 5).
 func TestAnswersHangOnArgumentsAlone(t *testing.T) {
 	tell := func() (all [][]byte) {
@@ -220,12 +308,20 @@ func TestAnswersHangOnArgumentsAlone(t *testing.T) {
 		h, i := sign.Spread(a), sign.Sign(a, d)
 		j, _ := vrf.Prove(a, d)
 		k, _ := vrf.Check(h.Public, d, j)
-		return append(all, a[:], b[:], c[:], d, e[:], f[:], g[:], h.Public[:], i[:], j[:], k[:])
+		l, _ := disk.New(4)
+		m, _, _ := journal.Open(l, 1, 3)
+		m.Append(e[:])
+		x, _ := extent.New(l, 0, 2, 2)
+		x.Zero(1)
+		n, _ := l.Read(1)
+		all = append(all, a[:], b[:], c[:], d, e[:], f[:], g[:], h.Public[:], i[:], j[:], k[:], n[:])
+		return append(all, []byte{byte(m.Room()), byte(l.Writes()), byte(x.Of(1))})
 	}
 	first := tell()
 	TestNoCallPanics(t)
 	TestNoCallOfNumbersPanics(t)
 	TestNoCallOfSignaturesPanics(t)
+	TestNoCallOfBlocksPanics(t)
 	for i, b := range tell() {
 		if string(b) != string(first[i]) {
 			t.Errorf("answer %d is another one", i)
