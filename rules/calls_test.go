@@ -12,14 +12,18 @@ import (
 	"custumal/field"
 	"custumal/hmac"
 	"custumal/journal"
+	"custumal/path"
+	"custumal/proof"
+	"custumal/rfclog"
 	"custumal/scalar"
 	"custumal/sha2"
 	"custumal/sha5"
 	"custumal/sign"
+	"custumal/tree"
 	"custumal/vrf"
 )
 
-// The calls of layers 1 to 12 have just these signatures; what doesn't have them doesn't build.
+// The calls of layers 1 to 16 have just these signatures; what doesn't have them doesn't build.
 var (
 	_ func(...[]byte) [32]byte         = sha2.Sum
 	_ func() *sha2.Hash                = sha2.New
@@ -119,6 +123,50 @@ var (
 	_ func(x *extent.Extents, i int) api.Errno                                = (*extent.Extents).Zero
 	_ func(x *extent.Extents, i int) (bool, api.Errno)                        = (*extent.Extents).Clear
 	_ func(*extent.Extents) ([]int, api.Errno)                                = (*extent.Extents).Foul
+
+	_ func(k path.Key, i int) int              = path.Key.Bit
+	_ func(k, l path.Key) int                  = path.Key.Common
+	_ func(k, l path.Key) bool                 = path.Key.Less
+	_ func(k path.Key, i int) path.Key         = path.Key.Flip
+	_ func(k path.Key, l path.Key, n int) bool = path.Key.Under
+	_ func([]path.Key) []path.Key              = path.Sort
+	_ [32]byte                                 = path.Key{}
+	_ [256]byte                                = [path.Bits]byte{}
+
+	_ func([]tree.Leaf) *tree.Tree                                            = tree.Of
+	_ func(*tree.Tree, tree.Leaf) *tree.Tree                                  = (*tree.Tree).Put
+	_ func(*tree.Tree, path.Key) (value [32]byte, there bool, met int)        = (*tree.Tree).Get
+	_ func(*tree.Tree) [32]byte                                               = (*tree.Tree).Root
+	_ func(*tree.Tree) int                                                    = (*tree.Tree).Len
+	_ func(*tree.Tree) []tree.Leaf                                            = (*tree.Tree).Leaves
+	_ func(*tree.Tree, path.Key) (sums [][32]byte, end tree.Leaf, there bool) = (*tree.Tree).Beside
+	_ func() [32]byte                                                         = tree.Empty
+	_ func(tree.Leaf) [32]byte                                                = tree.LeafSum
+	_ func(depth int, left, right [32]byte) [32]byte                          = tree.NodeSum
+	_ struct {
+		Key   path.Key
+		Value [32]byte
+	} = tree.Leaf{}
+
+	_ func(*tree.Tree, path.Key) proof.Proof                                                   = proof.Prove
+	_ func(root [32]byte, k path.Key, p proof.Proof) (value [32]byte, there bool, _ api.Errno) = proof.Check
+	_ func(path.Key, proof.Proof) [][]byte                                                     = proof.Texts
+	_ func(*codec.Writer, proof.Proof)                                                         = proof.Put
+	_ func(*codec.Reader) (proof.Proof, api.Errno)                                             = proof.Take
+	_ struct {
+		Sums  [][32]byte
+		There bool
+		End   tree.Leaf
+	} = proof.Proof{}
+
+	_ func(*rfclog.Log, []byte) int                                       = (*rfclog.Log).Add
+	_ func(*rfclog.Log) int                                               = (*rfclog.Log).Len
+	_ func(l *rfclog.Log, n int) ([32]byte, api.Errno)                    = (*rfclog.Log).Root
+	_ func(l *rfclog.Log, i, n int) ([][32]byte, api.Errno)               = (*rfclog.Log).Inclusion
+	_ func(l *rfclog.Log, m, n int) ([][32]byte, api.Errno)               = (*rfclog.Log).Consistency
+	_ func([]byte) [32]byte                                               = rfclog.EntrySum
+	_ func(entry []byte, i, n int, p [][32]byte, root [32]byte) api.Errno = rfclog.CheckInclusion
+	_ func(m, n int, p [][32]byte, old, root [32]byte) api.Errno          = rfclog.CheckConsistency
 )
 
 // Each call of layers 1 to 4 ends without a panic at nil objects, zero values, nil and empty lists, and numbers far out (P1).
@@ -295,6 +343,94 @@ func TestNoCallOfBlocksPanics(t *testing.T) {
 	}
 }
 
+// trees: none, the zero value, of one leaf, of two that differ in the last bit alone, and of more.
+func trees() []*tree.Tree {
+	var none *tree.Tree
+	one := none.Put(tree.Leaf{Key: path.Key{1}})
+	two := one.Put(tree.Leaf{Key: path.Key{1, 31: 1}})
+	return []*tree.Tree{none, {}, one, two, two.Put(tree.Leaf{}).Put(tree.Leaf{Key: path.Key{0xff}}), tree.Of(nil)}
+}
+
+// Each call of layers 13 to 15 ends without a panic at nil objects, zero values, all kinds of keys, and numbers far out (P1).
+func TestNoCallOfTreesPanics(t *testing.T) {
+	keys := []path.Key{{}, {1}, {31: 1}, {0xff}, {1, 31: 1}, {1, 31: 2}}
+	numbers := []int{math.MinInt, math.MinInt + 1, -257, -8, -1, 0, 7, 255, 256, 257, 65536, 1 << 32, math.MaxInt}
+	counts := []int{0, 1, 255, 256, 257, 1000}
+	for _, k := range keys {
+		for _, n := range numbers {
+			k.Bit(n)
+			k.Flip(n)
+			tree.NodeSum(n, k, k)
+			for _, l := range keys {
+				k.Under(l, n)
+				k.Common(l)
+				k.Less(l)
+			}
+		}
+		for _, made := range trees() {
+			made.Put(tree.Leaf{Key: k}).Put(tree.Leaf{Key: k.Flip(255)}).Leaves()
+			made.Get(k)
+			made.Beside(k)
+			made.Len()
+			made.Leaves()
+			proof.Check(made.Root(), k, proof.Prove(made, k))
+		}
+		for _, n := range counts {
+			for _, p := range []proof.Proof{{Sums: make([][32]byte, n)}, {Sums: make([][32]byte, n), There: true, End: tree.Leaf{Key: k}}} {
+				proof.Check([32]byte{}, k, p)
+				proof.Texts(k, p)
+				var noWriter *codec.Writer
+				for _, w := range []*codec.Writer{noWriter, {}} {
+					proof.Put(w, p)
+					b, _ := w.Bytes()
+					proof.Take(codec.Read(b))
+				}
+			}
+		}
+	}
+	for _, n := range numbers {
+		var w codec.Writer
+		w.Num(n)
+		b, _ := w.Bytes()
+		proof.Take(codec.Read(b))
+	}
+	for _, r := range []*codec.Reader{nil, {}, codec.Read(nil), codec.Read([]byte{0})} {
+		proof.Take(r)
+		proof.Take(r)
+	}
+	proof.Texts(path.Key{}, proof.Proof{Sums: make([][32]byte, 70000)})
+	path.Sort(nil)
+	path.Sort(keys)
+	tree.Of([]tree.Leaf{{}, {}, {}})
+	tree.LeafSum(tree.Leaf{})
+	tree.Empty()
+}
+
+// Each call of layer 16 ends without a panic, and soon, at a nil log, the zero value, and numbers far out (P1).
+func TestNoCallOfLogsPanics(t *testing.T) {
+	numbers := []int{math.MinInt, math.MinInt + 1, -1, 0, 1, 2, 3, 4, 1 << 32, 1 << 62, 1<<62 + 1, math.MaxInt - 1, math.MaxInt}
+	var noLog *rfclog.Log
+	for _, l := range []*rfclog.Log{noLog, {}, {}, {}} {
+		for _, entry := range [][]byte{nil, {}, {1}, make([]byte, 65536)} {
+			for _, m := range numbers {
+				l.Root(m)
+				for _, n := range numbers {
+					l.Inclusion(m, n)
+					l.Consistency(m, n)
+					for _, count := range []int{0, 1, 2, 61, 62, 63, 64, 1000} {
+						p := make([][32]byte, count)
+						rfclog.CheckInclusion(entry[:min(len(entry), 1)], m, n, p, [32]byte{})
+						rfclog.CheckConsistency(m, n, p, [32]byte{}, [32]byte{})
+					}
+				}
+			}
+			l.Len()
+			l.Add(entry)
+			rfclog.EntrySum(entry)
+		}
+	}
+}
+
 // The same calls tell the same, whatever was called between (rule 5).
 func TestAnswersHangOnArgumentsAlone(t *testing.T) {
 	tell := func() (all [][]byte) {
@@ -315,16 +451,38 @@ func TestAnswersHangOnArgumentsAlone(t *testing.T) {
 		x.Zero(1)
 		n, _ := l.Read(1)
 		all = append(all, a[:], b[:], c[:], d, e[:], f[:], g[:], h.Public[:], i[:], j[:], k[:], n[:])
-		return append(all, []byte{byte(m.Room()), byte(l.Writes()), byte(x.Of(1))})
+		all = append(all, []byte{byte(m.Room()), byte(l.Writes()), byte(x.Of(1))})
+		return append(all, tellOfTrees(a, e, f)...)
 	}
 	first := tell()
 	TestNoCallPanics(t)
 	TestNoCallOfNumbersPanics(t)
 	TestNoCallOfSignaturesPanics(t)
 	TestNoCallOfBlocksPanics(t)
+	TestNoCallOfTreesPanics(t)
+	TestNoCallOfLogsPanics(t)
 	for i, b := range tell() {
 		if string(b) != string(first[i]) {
 			t.Errorf("answer %d is another one", i)
 		}
 	}
+}
+
+// tellOfTrees: what comes of these sums as keys, values and entries.
+func tellOfTrees(sums ...[32]byte) [][]byte {
+	var made *tree.Tree
+	var log rfclog.Log
+	for _, sum := range sums {
+		made = made.Put(tree.Leaf{Key: sum, Value: sums[0]})
+		log.Add(sum[:])
+	}
+	k := path.Key(sums[0]).Flip(255)
+	p := proof.Prove(made, k)
+	var w codec.Writer
+	proof.Put(&w, p)
+	b, _ := w.Bytes()
+	top, _ := log.Root(len(sums))
+	way, _ := log.Inclusion(1, len(sums))
+	root := made.Root()
+	return append(proof.Texts(k, p), root[:], b, top[:], way[0][:], []byte{byte(k.Common(sums[1]))})
 }
