@@ -5,7 +5,10 @@ import (
 	"testing"
 
 	"custumal/api"
+	"custumal/chain"
 	"custumal/codec"
+	"custumal/commit"
+	"custumal/direct"
 	"custumal/disk"
 	"custumal/edwards"
 	"custumal/extent"
@@ -23,7 +26,7 @@ import (
 	"custumal/vrf"
 )
 
-// The calls of layers 1 to 16 have just these signatures; what doesn't have them doesn't build.
+// The calls of layers 1 to 19 have just these signatures; what doesn't have them doesn't build.
 var (
 	_ func(...[]byte) [32]byte         = sha2.Sum
 	_ func() *sha2.Hash                = sha2.New
@@ -167,6 +170,58 @@ var (
 	_ func([]byte) [32]byte                                               = rfclog.EntrySum
 	_ func(entry []byte, i, n int, p [][32]byte, root [32]byte) api.Errno = rfclog.CheckInclusion
 	_ func(m, n int, p [][32]byte, old, root [32]byte) api.Errno          = rfclog.CheckConsistency
+
+	_ func(key, index [32]byte, version int, value []byte) (bound, open [32]byte) = commit.Make
+	_ func(bound, open, index [32]byte, version int, value []byte) api.Errno      = commit.Check
+	_ func(open, index [32]byte, version int, value []byte) [][]byte              = commit.Texts
+
+	_ func(id []byte) [32]byte                                                             = chain.First
+	_ func(id []byte, epoch int, root, ahead [32]byte) [32]byte                            = chain.Next
+	_ func(id []byte, epoch int, root, ahead [32]byte) []byte                              = chain.Text
+	_ func(id []byte, from int, ahead [32]byte, roots, links [][32]byte) (check api.Errno) = chain.Check
+
+	_ func(id []byte, k direct.Keys, l direct.Limits) (*direct.Directory, api.Errno) = direct.New
+	_ func(*direct.Directory) []byte                                                 = (*direct.Directory).Id
+	_ func(*direct.Directory) direct.Keys                                            = (*direct.Directory).Keys
+	_ func(*direct.Directory) direct.Limits                                          = (*direct.Directory).Limits
+	_ func(d *direct.Directory, epoch int) ([]direct.Pair, api.Errno)                = (*direct.Directory).Made
+	_ func(*direct.Directory) []direct.Pair                                          = (*direct.Directory).Waits
+	_ func(*direct.Directory) [32]byte                                               = (*direct.Directory).Public
+	_ func(d *direct.Directory, label, value []byte) api.Errno                       = (*direct.Directory).Put
+	_ func(*direct.Directory) (int, api.Errno)                                       = (*direct.Directory).Seal
+	_ func(*direct.Directory) int                                                    = (*direct.Directory).Epoch
+	_ func(*direct.Directory) int                                                    = (*direct.Directory).Waiting
+	_ func(*direct.Directory) int                                                    = (*direct.Directory).Labels
+	_ func(d *direct.Directory, label []byte, epoch int) (direct.Found, api.Errno)   = (*direct.Directory).Lookup
+	_ func(d *direct.Directory, label []byte) ([]direct.Entry, api.Errno)            = (*direct.Directory).History
+	_ func(d *direct.Directory, from, to int) ([]direct.Mark, api.Errno)             = (*direct.Directory).Audit
+	_ struct{ Vrf, Bind [32]byte }                                                   = direct.Keys{}
+	_ struct{ Labels, Pending, Epochs int }                                          = direct.Limits{}
+	_ struct{ Label, Value []byte }                                                  = direct.Pair{}
+	_ struct {
+		Epoch, Version int
+		Value          []byte
+	} = direct.Entry{}
+	_ struct {
+		Epoch int
+		Root  [32]byte
+		Link  [32]byte
+	} = direct.Mark{}
+	_ struct {
+		Epoch   int
+		Index   [32]byte
+		Vrf     [80]byte
+		Present bool
+		Version int
+		Value   []byte
+		Bound   [32]byte
+		Open    [32]byte
+		Proof   proof.Proof
+		Root    [32]byte
+		Link    [32]byte
+		Ahead   [32]byte
+		Reads   int
+	} = direct.Found{}
 )
 
 // Each call of layers 1 to 4 ends without a panic at nil objects, zero values, nil and empty lists, and numbers far out (P1).
@@ -431,6 +486,85 @@ func TestNoCallOfLogsPanics(t *testing.T) {
 	}
 }
 
+// Each call of layers 17 and 18 ends without a panic at nil and empty lists, long ones, and numbers far out (P1).
+func TestNoCallOfLinksPanics(t *testing.T) {
+	numbers := []int{math.MinInt, math.MinInt + 1, -1, 0, 1, 255, 256, 1 << 32, math.MaxInt - 1, math.MaxInt}
+	texts := [][]byte{nil, {}, {0}, make([]byte, 64), make([]byte, 65535), make([]byte, 65536)}
+	sum := [32]byte{1, 31: 0xff}
+	for _, text := range texts {
+		chain.First(text)
+		for _, n := range numbers {
+			bound, open := commit.Make(sum, [32]byte{}, n, text)
+			commit.Check(bound, open, sum, n, text)
+			commit.Check(sum, sum, sum, n, text)
+			commit.Texts(sum, bound, n, text)
+			chain.Text(text, n, sum, open)
+			chain.Next(text, n, sum, open)
+			for _, count := range []int{0, 1, 3} {
+				roots := make([][32]byte, count)
+				chain.Check(text, n, sum, roots, roots)
+				chain.Check(text, n, sum, nil, roots)
+				chain.Check(text, n, sum, roots, nil)
+				chain.Check(text, n, sum, roots, [][32]byte{chain.Next(text, n, [32]byte{}, sum)})
+			}
+		}
+	}
+}
+
+// directories: none, one that New didn't make, new ones, and one that has no room for anything more.
+func directories() []*direct.Directory {
+	least, _ := direct.New([]byte{0}, direct.Keys{}, direct.Limits{Labels: 1, Pending: 1, Epochs: 1})
+	most, _ := direct.New(make([]byte, api.MaxId), direct.Keys{}, direct.Limits{Labels: api.MaxLabels, Pending: api.MaxPending, Epochs: api.MaxEpochs})
+	full, _ := direct.New([]byte{1}, direct.Keys{}, direct.Limits{Labels: 1, Pending: 1, Epochs: 1})
+	full.Put([]byte{1}, nil)
+	full.Seal()
+	full.Put([]byte{1}, nil)
+	return []*direct.Directory{nil, {}, least, most, full}
+}
+
+// Each call of layer 19 ends without a panic at nil objects, zero values, nil and empty lists, long ones, and numbers far out (P1).
+func TestNoCallOfDirectoriesPanics(t *testing.T) {
+	numbers := []int{math.MinInt, math.MinInt + 1, -2, -1, 0, 1, 2, 33, 1 << 32, math.MaxInt - 1, math.MaxInt}
+	texts := [][]byte{nil, {}, {1}, make([]byte, 17), make([]byte, 33), make([]byte, 65), make([]byte, 65536)}
+	for _, n := range numbers {
+		for _, text := range texts {
+			direct.New(text, direct.Keys{}, direct.Limits{})
+			direct.New(text, direct.Keys{}, direct.Limits{Labels: n, Pending: n, Epochs: n})
+			direct.New(text, direct.Keys{}, direct.Limits{Labels: n, Pending: 1, Epochs: 1})
+			direct.New(text, direct.Keys{}, direct.Limits{Labels: 1, Pending: n, Epochs: 1})
+			direct.New(text, direct.Keys{}, direct.Limits{Labels: 1, Pending: 1, Epochs: n})
+		}
+	}
+	for _, d := range directories() {
+		for range 3 {
+			for _, n := range numbers {
+				d.Made(n)
+				for _, m := range numbers {
+					d.Audit(n, m)
+				}
+				for _, text := range texts {
+					d.Lookup(text, n)
+				}
+			}
+			for _, text := range texts {
+				d.History(text)
+				for _, value := range texts {
+					d.Put(text, value)
+				}
+			}
+			d.Id()
+			d.Keys()
+			d.Limits()
+			d.Waits()
+			d.Public()
+			d.Epoch()
+			d.Waiting()
+			d.Labels()
+			d.Seal()
+		}
+	}
+}
+
 // The same calls tell the same, whatever was called between (rule 5).
 func TestAnswersHangOnArgumentsAlone(t *testing.T) {
 	tell := func() (all [][]byte) {
@@ -452,7 +586,8 @@ func TestAnswersHangOnArgumentsAlone(t *testing.T) {
 		n, _ := l.Read(1)
 		all = append(all, a[:], b[:], c[:], d, e[:], f[:], g[:], h.Public[:], i[:], j[:], k[:], n[:])
 		all = append(all, []byte{byte(m.Room()), byte(l.Writes()), byte(x.Of(1))})
-		return append(all, tellOfTrees(a, e, f)...)
+		all = append(all, tellOfTrees(a, e, f)...)
+		return append(all, tellOfDirectory(a, e)...)
 	}
 	first := tell()
 	TestNoCallPanics(t)
@@ -461,6 +596,8 @@ func TestAnswersHangOnArgumentsAlone(t *testing.T) {
 	TestNoCallOfBlocksPanics(t)
 	TestNoCallOfTreesPanics(t)
 	TestNoCallOfLogsPanics(t)
+	TestNoCallOfLinksPanics(t)
+	TestNoCallOfDirectoriesPanics(t)
 	for i, b := range tell() {
 		if string(b) != string(first[i]) {
 			t.Errorf("answer %d is another one", i)
@@ -485,4 +622,18 @@ func tellOfTrees(sums ...[32]byte) [][]byte {
 	way, _ := log.Inclusion(1, len(sums))
 	root := made.Root()
 	return append(proof.Texts(k, p), root[:], b, top[:], way[0][:], []byte{byte(k.Common(sums[1]))})
+}
+
+// tellOfDirectory: what comes of these sums as keys, labels and values, and as links.
+func tellOfDirectory(sums ...[32]byte) [][]byte {
+	d, _ := direct.New(sums[0][:api.MaxId], direct.Keys{Vrf: sums[0], Bind: sums[1]}, direct.Limits{Labels: 2, Pending: 2, Epochs: 2})
+	d.Put(sums[0][:], sums[1][:])
+	d.Put(sums[1][:], nil)
+	d.Seal()
+	found, _ := d.Lookup(sums[0][:], -1)
+	marks, _ := d.Audit(0, 1)
+	bound, _ := commit.Make(sums[0], sums[1], 1, sums[0][:])
+	link := chain.Next(sums[0][:], 2, sums[1], marks[1].Link)
+	all := append(commit.Texts(found.Open, found.Index, found.Version, found.Value), proof.Texts(found.Index, found.Proof)...)
+	return append(all, found.Vrf[:], marks[0].Link[:], marks[1].Root[:], bound[:], link[:])
 }
