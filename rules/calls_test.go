@@ -5,6 +5,8 @@ import (
 	"testing"
 
 	"custumal/api"
+	"custumal/cache"
+	"custumal/cadence"
 	"custumal/chain"
 	"custumal/codec"
 	"custumal/commit"
@@ -22,11 +24,13 @@ import (
 	"custumal/sha2"
 	"custumal/sha5"
 	"custumal/sign"
+	"custumal/super"
+	"custumal/tenant"
 	"custumal/tree"
 	"custumal/vrf"
 )
 
-// The calls of layers 1 to 19 have just these signatures; what doesn't have them doesn't build.
+// The calls of layers 1 to 23 have just these signatures; what doesn't have them doesn't build.
 var (
 	_ func(...[]byte) [32]byte         = sha2.Sum
 	_ func() *sha2.Hash                = sha2.New
@@ -222,6 +226,63 @@ var (
 		Ahead   [32]byte
 		Reads   int
 	} = direct.Found{}
+
+	_ func(parts, size int) (*cache.Cache, api.Errno)               = cache.New
+	_ func(c *cache.Cache, part int, name string) (string, bool)    = (*cache.Cache).Get
+	_ func(c *cache.Cache, part int, name, what string) api.Errno   = (*cache.Cache).Put
+	_ func(c *cache.Cache, part int) api.Errno                      = (*cache.Cache).Drop
+	_ func(c *cache.Cache, part int) []string                       = (*cache.Cache).Names
+	_ func(c *cache.Cache, part int) (hits, misses int)             = (*cache.Cache).Hits
+	_ func(now int) (*cadence.Schedule, api.Errno)                  = cadence.New
+	_ func(*cadence.Schedule) int                                   = (*cadence.Schedule).Now
+	_ func(*cadence.Schedule) ([]string, api.Errno)                 = (*cadence.Schedule).Tick
+	_ func(s *cadence.Schedule, id string, period, a int) api.Errno = (*cadence.Schedule).Add
+	_ func(s *cadence.Schedule, id string) api.Errno                = (*cadence.Schedule).Remove
+	_ func(s *cadence.Schedule, id string) (int, api.Errno)         = (*cadence.Schedule).Age
+	_ func(s *cadence.Schedule, id string) (int, api.Errno)         = (*cadence.Schedule).Next
+	_ func(*cadence.Schedule) []string                              = (*cadence.Schedule).Ids
+
+	_ func(places int) (*tenant.Table, api.Errno)                                          = tenant.New
+	_ func(t *tenant.Table, id []byte, k direct.Keys, l direct.Limits) (int, api.Errno)    = (*tenant.Table).Create
+	_ func(t *tenant.Table, id []byte, d *direct.Directory) (int, api.Errno)               = (*tenant.Table).Import
+	_ func(t *tenant.Table, id []byte, state, place int, d *direct.Directory) api.Errno    = (*tenant.Table).Settle
+	_ func(t *tenant.Table, id []byte) api.Errno                                           = (*tenant.Table).Hold
+	_ func(t *tenant.Table, id []byte) api.Errno                                           = (*tenant.Table).Free
+	_ func(t *tenant.Table, id []byte) (int, api.Errno)                                    = (*tenant.Table).Delete
+	_ func(t *tenant.Table, id []byte) int                                                 = (*tenant.Table).State
+	_ func(t *tenant.Table, id []byte, held bool) (*direct.Directory, api.Errno)           = (*tenant.Table).Get
+	_ func(t *tenant.Table, id []byte) (int, api.Errno)                                    = (*tenant.Table).Place
+	_ func(t *tenant.Table, state int) []string                                            = (*tenant.Table).Ids
+	_ func(*tenant.Table) int                                                              = (*tenant.Table).Room
+	_ [6]byte                                                                              = [tenant.Nobody + tenant.Live + tenant.Held + tenant.Gone]byte{}
+	_ func(seed [32]byte) *super.Super                                                     = super.New
+	_ func(seed [32]byte, list []super.Signed, l []super.Member) (*super.Super, api.Errno) = super.Restore
+	_ func(*super.Super) [32]byte                                                          = (*super.Super).Public
+	_ func(*super.Super, []super.Member) super.Signed                                      = (*super.Super).Seal
+	_ func(*super.Super) int                                                               = (*super.Super).Epochs
+	_ func(*super.Super) (super.Signed, api.Errno)                                         = (*super.Super).Last
+	_ func(s *super.Super, epoch int) (super.Signed, api.Errno)                            = (*super.Super).At
+	_ func(s *super.Super, id []byte) proof.Proof                                          = (*super.Super).Prove
+	_ func(s *super.Super, epoch, epochs int) ([][32]byte, api.Errno)                      = (*super.Super).Inclusion
+	_ func(s *super.Super, from, to int) ([][32]byte, api.Errno)                           = (*super.Super).Consistency
+	_ func(s *super.Super, epochs int) ([32]byte, api.Errno)                               = (*super.Super).LogRoot
+	_ func(id []byte) path.Key                                                             = super.Key
+	_ func(super.Member) [32]byte                                                          = super.Value
+	_ func(id []byte) []byte                                                               = super.KeyText
+	_ func(super.Member) []byte                                                            = super.ValueText
+	_ func(epoch int, root [32]byte) []byte                                                = super.Text
+	_ func(public [32]byte, s super.Signed) api.Errno                                      = super.Check
+	_ struct {
+		Id    []byte
+		Gone  bool
+		Epoch int
+		Link  [32]byte
+	} = super.Member{}
+	_ struct {
+		Epoch int
+		Root  [32]byte
+		Sig   [64]byte
+	} = super.Signed{}
 )
 
 // Each call of layers 1 to 4 ends without a panic at nil objects, zero values, nil and empty lists, and numbers far out (P1).
@@ -565,6 +626,148 @@ func TestNoCallOfDirectoriesPanics(t *testing.T) {
 	}
 }
 
+// Each call of layers 20 and 21 ends without a panic at nil objects, zero values, parts that are none, and numbers far out (P1).
+func TestNoCallOfBeatsPanics(t *testing.T) {
+	numbers := []int{math.MinInt, math.MinInt + 1, -1, 0, 1, 2, 7, 8, 9, 256, 257, 1000, 1001, 1 << 32, math.MaxInt - 1, math.MaxInt}
+	texts := []string{"", "\x00", "a", string(make([]byte, 65536))}
+	caches, schedules := []*cache.Cache{nil, {}}, []*cadence.Schedule{nil, {}}
+	for _, n := range numbers {
+		s, _ := cadence.New(n)
+		schedules = append(schedules, s)
+		for _, m := range numbers {
+			c, _ := cache.New(n, m)
+			caches = append(caches, c)
+		}
+	}
+	for _, c := range caches {
+		for _, n := range numbers {
+			for _, text := range texts {
+				c.Get(n, text)
+				c.Put(n, text, text)
+				c.Get(n, text)
+				c.Put(n, text, "")
+			}
+			c.Names(n)
+			c.Hits(n)
+			c.Drop(n)
+			c.Names(n)
+		}
+	}
+	for _, s := range schedules {
+		for i, text := range texts {
+			for j, n := range numbers {
+				id := text + string(rune(j))
+				for _, m := range numbers {
+					s.Add(id, n, m)
+				}
+				s.Add(id, numbers[(i+j)%3+4], n)
+				s.Age(id)
+				s.Next(id)
+				s.Tick()
+				s.Next(id)
+				s.Now()
+				s.Ids()
+				if j%2 == 0 {
+					s.Remove(id)
+					s.Remove(id)
+				}
+			}
+		}
+	}
+}
+
+// Each call of layer 22 ends without a panic at nil objects, zero values, ids and places that are none, and numbers far out (P1).
+func TestNoCallOfTablesPanics(t *testing.T) {
+	numbers := []int{math.MinInt, -1, 0, 1, 2, 3, 4, 8, 9, 1 << 32, math.MaxInt}
+	texts := [][]byte{nil, {}, {0}, {1}, make([]byte, 16), make([]byte, 17), make([]byte, 65536)}
+	tables := []*tenant.Table{nil, {}}
+	for _, n := range numbers {
+		table, _ := tenant.New(n)
+		tables = append(tables, table)
+	}
+	for _, table := range tables {
+		for _, text := range texts {
+			for _, d := range directories() {
+				for _, n := range numbers {
+					table.Create(text, direct.Keys{}, direct.Limits{Labels: n, Pending: n, Epochs: n})
+					for _, m := range numbers {
+						table.Settle(text, n, m, d)
+					}
+					table.Ids(n)
+				}
+				for range 2 {
+					table.Import(text, d)
+					table.Get(text, false)
+					table.Hold(text)
+					table.Get(text, true)
+					table.Place(text)
+					table.State(text)
+					table.Room()
+				}
+				table.Free(text)
+			}
+			table.Delete(text)
+			table.Delete(text)
+			table.Create(append(text, 5), direct.Keys{}, direct.Limits{Labels: 1, Pending: 1, Epochs: 1})
+		}
+	}
+}
+
+// supers: none, one that New didn't make, and others without a super-epoch, with some, and with members alone.
+func supers() []*super.Super {
+	some := super.New([32]byte{1})
+	for range 3 {
+		some.Seal([]super.Member{{}, {Gone: true}})
+	}
+	of, _ := super.Restore([32]byte{1}, nil, []super.Member{{}})
+	return []*super.Super{nil, {}, super.New([32]byte{}), some, of}
+}
+
+// Each call of layer 23 ends without a panic at nil objects, zero values, nil and empty lists, and numbers far out (P1).
+func TestNoCallOfSupersPanics(t *testing.T) {
+	numbers := []int{math.MinInt, math.MinInt + 1, -1, 0, 1, 2, 3, 4, 1 << 32, math.MaxInt - 1, math.MaxInt}
+	texts := [][]byte{nil, {}, {0}, make([]byte, 17), make([]byte, 65536)}
+	lists := [][]super.Member{nil, {}, {{}, {}}}
+	for _, text := range texts {
+		super.Key(text)
+		super.KeyText(text)
+		for _, n := range numbers {
+			for _, m := range []super.Member{{Id: text, Epoch: n}, {Id: text, Epoch: n, Gone: true}} {
+				super.Value(m)
+				super.ValueText(m)
+				lists = append(lists, []super.Member{m})
+			}
+		}
+	}
+	for _, s := range supers() {
+		for _, l := range lists {
+			s.Seal(l)
+		}
+		for _, n := range numbers {
+			s.At(n)
+			s.LogRoot(n)
+			for _, m := range numbers {
+				s.Inclusion(n, m)
+				s.Consistency(n, m)
+			}
+		}
+		for _, text := range texts {
+			s.Prove(text)
+		}
+		s.Last()
+		s.Epochs()
+		s.Public()
+	}
+	for _, n := range numbers {
+		super.Text(n, [32]byte{})
+		for _, public := range [][32]byte{{}, {2}, sign.Spread([32]byte{}).Public} {
+			super.Check(public, super.Signed{Epoch: n})
+		}
+		super.Restore([32]byte{}, []super.Signed{{Epoch: n}, {}}, lists[len(lists)-1])
+		super.Restore([32]byte{}, make([]super.Signed, 1), nil)
+	}
+}
+
 // The same calls tell the same, whatever was called between (rule 5).
 func TestAnswersHangOnArgumentsAlone(t *testing.T) {
 	tell := func() (all [][]byte) {
@@ -587,7 +790,8 @@ func TestAnswersHangOnArgumentsAlone(t *testing.T) {
 		all = append(all, a[:], b[:], c[:], d, e[:], f[:], g[:], h.Public[:], i[:], j[:], k[:], n[:])
 		all = append(all, []byte{byte(m.Room()), byte(l.Writes()), byte(x.Of(1))})
 		all = append(all, tellOfTrees(a, e, f)...)
-		return append(all, tellOfDirectory(a, e)...)
+		all = append(all, tellOfDirectory(a, e)...)
+		return append(all, tellOfMany(a, e)...)
 	}
 	first := tell()
 	TestNoCallPanics(t)
@@ -598,6 +802,9 @@ func TestAnswersHangOnArgumentsAlone(t *testing.T) {
 	TestNoCallOfLogsPanics(t)
 	TestNoCallOfLinksPanics(t)
 	TestNoCallOfDirectoriesPanics(t)
+	TestNoCallOfBeatsPanics(t)
+	TestNoCallOfTablesPanics(t)
+	TestNoCallOfSupersPanics(t)
 	for i, b := range tell() {
 		if string(b) != string(first[i]) {
 			t.Errorf("answer %d is another one", i)
@@ -636,4 +843,32 @@ func tellOfDirectory(sums ...[32]byte) [][]byte {
 	link := chain.Next(sums[0][:], 2, sums[1], marks[1].Link)
 	all := append(commit.Texts(found.Open, found.Index, found.Version, found.Value), proof.Texts(found.Index, found.Proof)...)
 	return append(all, found.Vrf[:], marks[0].Link[:], marks[1].Root[:], bound[:], link[:])
+}
+
+// tellOfMany: what comes of these sums as ids, names and links.
+func tellOfMany(sums ...[32]byte) (all [][]byte) {
+	c, _ := cache.New(1, 2)
+	beat, _ := cadence.New(0)
+	table, _ := tenant.New(3)
+	var members []super.Member
+	for i, sum := range sums {
+		id := sum[:api.MaxId]
+		c.Put(0, string(id), string(sum[:]))
+		beat.Add(string(id), 1, i)
+		table.Create(id, direct.Keys{Vrf: sum}, direct.Limits{Labels: 1, Pending: 1, Epochs: 1})
+		members = append(members, super.Member{Id: id, Epoch: i, Link: sum})
+	}
+	table.Hold(sums[0][:api.MaxId])
+	s := super.New(sums[0])
+	for i := range members {
+		s.Seal(members[i:])
+	}
+	last, _ := s.Last()
+	way, _ := s.Inclusion(0, 2)
+	due, _ := beat.Tick()
+	told := append(append(c.Names(0), due...), table.Ids(tenant.Live)...)
+	for _, text := range told {
+		all = append(all, []byte(text))
+	}
+	return append(all, last.Root[:], last.Sig[:], way[0][:])
 }
