@@ -274,16 +274,14 @@ func TestNextAtTheEnd(t *testing.T) {
 	}
 }
 
-// An age grows to 2^63 - 1, and stays; who isn't due by then never is, and who is due then is at each tick (P21.1).
+// An age grows to 2^63 - 1, and stays: who isn't due by then never is, and who is due then is at each tick (P21.1).
 func TestAgeAtTheEnd(t *testing.T) {
 	// 2^63 - 1 is a multiple of 1, 7, 49, 73, 127, 337, 511, 889, but of no other numbers here.
 	for _, period := range []int{1, 2, 3, 7, 8, 10, 49, 73, 127, 128, 337, 511, 889, 999, 1000} {
-		always := math.MaxInt%period == 0
 		for _, left := range []int{0, 1, 2, 5} {
 			s := open(t, 10)
 			add(t, s, "a", period, math.MaxInt-left)
 			for i := 1; i <= 10; i++ {
-				expectNextTold(t, s, "a", period)
 				age, want := math.MaxInt-max(left-i, 0), []string{}
 				if age%period == 0 {
 					want = append(want, "a")
@@ -291,31 +289,28 @@ func TestAgeAtTheEnd(t *testing.T) {
 				expectTick(t, s, want...)
 				expectAge(t, s, "a", age, api.OK)
 			}
-			if always {
-				expectNext(t, s, "a", 21, api.OK)
+		}
+	}
+}
+
+// Next is a tick to which the age still grows: it is ErrClock, where the age stays ahead of it (P21.1).
+func TestNextOfGreatAges(t *testing.T) {
+	for _, period := range []int{1, 2, 3, 7, 8, 10, 49, 1000} {
+		for left := range 1100 {
+			s, age := open(t, 10), math.MaxInt-left
+			add(t, s, "a", period, age)
+			if ticks := period - age%period; ticks <= left {
+				expectNext(t, s, "a", 10+ticks, api.OK)
 			} else {
 				expectNext(t, s, "a", 0, api.ErrClock)
 			}
 		}
 	}
-	s := open(t, math.MaxInt)
-	add(t, s, "a", 1, math.MaxInt)
-	expectNext(t, s, "a", 0, api.ErrClock)
-}
-
-// expectNextTold: Next is the first tick at which a schedule like this one tells who is of that period; ErrClock, where it is none of a thousand.
-func expectNextTold(t *testing.T, s *cadence.Schedule, id string, period int) {
-	t.Helper()
-	age, _ := s.Age(id)
-	like := open(t, s.Now())
-	add(t, like, id, period, age)
-	for range 1000 {
-		if due, _ := like.Tick(); len(due) > 0 {
-			expectNext(t, s, id, like.Now(), api.OK)
-			return
-		}
+	for _, now := range []int{0, math.MaxInt - 1, math.MaxInt} {
+		s := open(t, now)
+		add(t, s, "a", 1, math.MaxInt)
+		expectNext(t, s, "a", 0, api.ErrClock)
 	}
-	expectNext(t, s, id, 0, api.ErrClock)
 }
 
 // A nil schedule: 0, ErrArg, none; one that New didn't make is nobody's, at 0 (P21.1, P1).
@@ -373,7 +368,7 @@ func (n note) ageAt(now uint64) uint64 { return min(n.age+now-n.since, math.MaxI
 
 func (n note) next(now uint64) (int, api.Errno) {
 	for tick := now + 1; tick <= now+1000 && tick <= math.MaxInt; tick++ {
-		if n.ageAt(tick)%n.period == 0 {
+		if n.ageAt(tick)%n.period == 0 && n.ageAt(tick) > n.ageAt(tick-1) {
 			return int(tick), api.OK
 		}
 	}
