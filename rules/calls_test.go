@@ -1,10 +1,12 @@
 package rules_test
 
 import (
+	"bytes"
 	"math"
 	"testing"
 
 	"custumal/api"
+	"custumal/bundle"
 	"custumal/cache"
 	"custumal/cadence"
 	"custumal/chain"
@@ -16,6 +18,7 @@ import (
 	"custumal/extent"
 	"custumal/field"
 	"custumal/hmac"
+	"custumal/host"
 	"custumal/journal"
 	"custumal/path"
 	"custumal/proof"
@@ -28,9 +31,10 @@ import (
 	"custumal/tenant"
 	"custumal/tree"
 	"custumal/vrf"
+	"custumal/wire"
 )
 
-// The calls of layers 1 to 23 have just these signatures; what doesn't have them doesn't build.
+// The calls of layers 1 to 26 have just these signatures; what doesn't have them doesn't build.
 var (
 	_ func(...[]byte) [32]byte         = sha2.Sum
 	_ func() *sha2.Hash                = sha2.New
@@ -283,7 +287,90 @@ var (
 		Root  [32]byte
 		Sig   [64]byte
 	} = super.Signed{}
+
+	_ func(wire.Request) ([]byte, api.Errno) = wire.Ask
+	_ func([]byte) (wire.Request, api.Errno) = wire.Asked
+	_ func(wire.Answer) ([]byte, api.Errno)  = wire.Tell
+	_ func([]byte) (wire.Answer, api.Errno)  = wire.Told
+	_ func(direct.Found) ([]byte, api.Errno) = wire.Saw
+	_ func([]byte) (direct.Found, api.Errno) = wire.Seen
+	_ struct {
+		Kind   int
+		Id     []byte
+		Keys   direct.Keys
+		Limits direct.Limits
+		Period int
+		Label  []byte
+		Value  []byte
+		From   int
+		To     int
+		Bundle []byte
+	} = wire.Request{}
+	_ struct {
+		Proof  proof.Proof
+		Signed super.Signed
+		Log    [32]byte
+		Sums   [][32]byte
+	} = wire.Under{}
+	_ struct {
+		Kind    int
+		Err     api.Errno
+		Epoch   int
+		Found   direct.Found
+		Public  [32]byte
+		Later   [][32]byte
+		Under   wire.Under
+		Entries []direct.Entry
+		Marks   []direct.Mark
+		Member  super.Member
+		Bundle  []byte
+		Log     [32]byte
+		Sums    [][32]byte
+	} = wire.Answer{}
+
+	_ func(bundle.Parcel) ([]byte, api.Errno) = bundle.Pack
+	_ func([]byte) (bundle.Parcel, api.Errno) = bundle.Unpack
+	_ struct {
+		Directory *direct.Directory
+		Period    int
+		Age       int
+		Held      bool
+	} = bundle.Parcel{}
+
+	_ func(seed [32]byte, places, now int) (*host.Host, api.Errno)          = host.New
+	_ func(seed [32]byte, places int, p host.Parts) (*host.Host, api.Errno) = host.Rebuild
+	_ func(*host.Host) host.Parts                                           = (*host.Host).Parts
+	_ func(*host.Host) [32]byte                                             = (*host.Host).Public
+	_ func(*host.Host, wire.Request) wire.Answer                            = (*host.Host).Serve
+	_ func(h *host.Host, b []byte) []byte                                   = (*host.Host).Do
+	_ func(*host.Host) api.Errno                                            = (*host.Host).Tick
+	_ func(*host.Host) []byte                                               = (*host.Host).State
+	_ func(h *host.Host, id []byte) (int, api.Errno)                        = (*host.Host).Place
+	_ struct {
+		Id                        []byte
+		State, Place, Period, Age int
+		Directory                 *direct.Directory
+		Public                    bool
+	} = host.Part{}
+	_ struct {
+		Now     int
+		Tenants []host.Part
+		Signed  []super.Signed
+		Members []super.Member
+	} = host.Parts{}
 )
+
+// The kinds of requests have the numbers of the chapter's table (layer 24).
+func TestKinds(t *testing.T) {
+	for i, kind := range []int{
+		wire.Create, wire.Hold, wire.Free, wire.Delete, wire.Put, wire.Lookup, wire.History, wire.Audit, wire.Export,
+		wire.Import, wire.Standing, wire.Growth,
+	} {
+		if kind != i+1 {
+			t.Errorf("kind %d is %d", i+1, kind)
+		}
+	}
+}
 
 // Each call of layers 1 to 4 ends without a panic at nil objects, zero values, nil and empty lists, and numbers far out (P1).
 func TestNoCallPanics(t *testing.T) {
@@ -768,6 +855,110 @@ func TestNoCallOfSupersPanics(t *testing.T) {
 	}
 }
 
+// Each call of layers 24 and 25 ends without a panic at nil objects, zero values, lists and texts that are none, numbers far out, and all bytes (P1).
+func TestNoCallOfBytesPanics(t *testing.T) {
+	numbers := []int{math.MinInt, -1, 0, 1, 2, 6, 8, 12, 13, 255, 256, 1 << 32, math.MaxInt}
+	texts := [][]byte{nil, {}, {1}, make([]byte, 17), make([]byte, 65), make([]byte, 65536)}
+	read := func(b []byte) {
+		wire.Asked(b)
+		wire.Told(b)
+		wire.Seen(b)
+		bundle.Unpack(b)
+	}
+	for _, text := range texts {
+		read(text)
+		for _, n := range numbers {
+			wire.Ask(wire.Request{Kind: n, Id: text, Label: text, Value: text, Bundle: text})
+			wire.Ask(wire.Request{Kind: n, Period: n, From: n, To: n, Limits: direct.Limits{Labels: n}})
+			for _, e := range numbers {
+				sums := make([][32]byte, 300)
+				f := direct.Found{Epoch: n, Value: text, Proof: proof.Proof{Sums: sums}}
+				wire.Tell(wire.Answer{Kind: n, Err: api.Errno(e), Found: f, Later: sums, Entries: make([]direct.Entry, 2000)})
+				wire.Tell(wire.Answer{Kind: n, Epoch: e, Marks: make([]direct.Mark, 2000), Member: super.Member{Id: text}, Bundle: text})
+				wire.Saw(f)
+				wire.Saw(direct.Found{Version: e, Value: text})
+				for _, d := range directories() {
+					bundle.Pack(bundle.Parcel{Directory: d, Period: n, Age: e})
+				}
+				// A kind, no error, and a count or a number, of one place or another.
+				for size := range 20 {
+					b := append([]byte{byte(n), byte(e)}, make([]byte, size)...)
+					for at := range 8 {
+						b = append(b, byte(uint64(e)>>(56-8*at)))
+					}
+					read(b)
+				}
+			}
+		}
+	}
+	for _, d := range directories() {
+		b, _ := bundle.Pack(bundle.Parcel{Directory: d, Period: 1})
+		for n := range b {
+			read(b[:n])
+			read(append(bytes.Clone(b[:n]), bytes.Repeat([]byte{255}, len(b)-n)...))
+			read(append(bytes.Clone(b[:n]), bytes.Repeat([]byte{127}, len(b)-n)...))
+		}
+	}
+}
+
+// hosts: none, one that New didn't make, a new one, one at the last tick, some of tenants, and of odd parts.
+func hosts() []*host.Host {
+	least, _ := host.New([32]byte{}, 1, 0)
+	last, _ := host.New([32]byte{1}, 8, math.MaxInt)
+	some, _ := host.New([32]byte{2}, 5, 0)
+	for i, id := range []string{"a", "b", "c"} {
+		some.Serve(wire.Request{Kind: wire.Create, Id: []byte(id), Limits: direct.Limits{Labels: 1, Pending: 1, Epochs: 1}, Period: 1})
+		some.Serve(wire.Request{Kind: i + 1, Id: []byte(id)})
+		some.Serve(wire.Request{Kind: wire.Put, Id: []byte(id), Label: []byte{1}})
+		some.Tick()
+	}
+	some.Serve(wire.Request{Kind: wire.Delete, Id: []byte("c")})
+	// A directory that New didn't make has an id of no bytes, and room for nothing.
+	parts := some.Parts()
+	parts.Tenants = append(parts.Tenants, host.Part{Id: []byte("d"), State: tenant.Live, Place: 4, Period: 1, Directory: &direct.Directory{}, Public: true})
+	odd, _ := host.Rebuild([32]byte{2}, 5, parts)
+	return []*host.Host{nil, {}, least, last, some, odd}
+}
+
+// Each call of layer 26 ends without a panic at nil objects, zero values, requests and parts of all kinds, and numbers far out (P1).
+func TestNoCallOfHostsPanics(t *testing.T) {
+	numbers := []int{math.MinInt, -1, 0, 1, 2, 8, 9, 1001, 1 << 32, math.MaxInt}
+	texts := [][]byte{nil, {}, {1}, []byte("a"), []byte("d"), make([]byte, 17), make([]byte, 33), make([]byte, 65536)}
+	for i, h := range hosts() {
+		if h == nil && i > 0 {
+			t.Errorf("host %d couldn't be made", i)
+		}
+		for range 2 {
+			for kind := -1; kind <= 14; kind++ {
+				for i, text := range texts {
+					for _, n := range numbers {
+						h.Serve(wire.Request{Kind: kind, Id: text, Label: text, Value: text, Bundle: text, From: n, To: n, Period: n})
+						h.Serve(wire.Request{Kind: kind, Id: text, Label: texts[(i+1)%len(texts)], From: -1, To: n, Period: 1, Limits: direct.Limits{Labels: n, Pending: 1, Epochs: 1}})
+					}
+					b, _ := wire.Ask(wire.Request{Kind: kind, Id: text, Label: []byte{1}})
+					h.Do(b)
+					h.Do(text)
+					h.Place(text)
+				}
+			}
+			h.Tick()
+			h.State()
+			h.Public()
+			host.Rebuild([32]byte{2}, 5, h.Parts())
+		}
+	}
+	for _, n := range numbers {
+		for _, m := range numbers {
+			host.New([32]byte{}, n, m)
+			host.Rebuild([32]byte{}, n, host.Parts{Now: m, Signed: make([]super.Signed, 1), Members: make([]super.Member, 2)})
+			for _, d := range directories() {
+				host.Rebuild([32]byte{}, 8, host.Parts{Tenants: []host.Part{{}, {Id: []byte{1}, State: n, Place: m, Period: m, Age: n, Directory: d}}})
+				host.Rebuild([32]byte{}, 8, host.Parts{Tenants: []host.Part{{Id: []byte{1}, State: n, Place: m, Period: m, Age: n, Directory: d}}})
+			}
+		}
+	}
+}
+
 // The same calls tell the same, whatever was called between (rule 5).
 func TestAnswersHangOnArgumentsAlone(t *testing.T) {
 	tell := func() (all [][]byte) {
@@ -791,7 +982,8 @@ func TestAnswersHangOnArgumentsAlone(t *testing.T) {
 		all = append(all, []byte{byte(m.Room()), byte(l.Writes()), byte(x.Of(1))})
 		all = append(all, tellOfTrees(a, e, f)...)
 		all = append(all, tellOfDirectory(a, e)...)
-		return append(all, tellOfMany(a, e)...)
+		all = append(all, tellOfMany(a, e)...)
+		return append(all, tellOfHost(a, e)...)
 	}
 	first := tell()
 	TestNoCallPanics(t)
@@ -805,6 +997,8 @@ func TestAnswersHangOnArgumentsAlone(t *testing.T) {
 	TestNoCallOfBeatsPanics(t)
 	TestNoCallOfTablesPanics(t)
 	TestNoCallOfSupersPanics(t)
+	TestNoCallOfBytesPanics(t)
+	TestNoCallOfHostsPanics(t)
 	for i, b := range tell() {
 		if string(b) != string(first[i]) {
 			t.Errorf("answer %d is another one", i)
@@ -871,4 +1065,21 @@ func tellOfMany(sums ...[32]byte) (all [][]byte) {
 		all = append(all, []byte(text))
 	}
 	return append(all, last.Root[:], last.Sig[:], way[0][:])
+}
+
+// tellOfHost: what comes of these sums as keys, ids, labels and values, by bytes.
+func tellOfHost(sums ...[32]byte) (all [][]byte) {
+	h, _ := host.New(sums[0], 3, 0)
+	for _, kind := range []int{wire.Create, wire.Put, 0, wire.Lookup, wire.Lookup, wire.History, wire.Export, wire.Hold, wire.Standing, wire.Growth} {
+		for _, sum := range sums {
+			r := wire.Request{Kind: kind, Id: sum[:api.MaxId], Keys: direct.Keys{Vrf: sum}, Limits: direct.Limits{Labels: 1, Pending: 1, Epochs: 1}}
+			r.Period, r.Label, r.Value, r.From, r.To = 1, sum[:], sum[:], 1, 2
+			b, _ := wire.Ask(r)
+			all = append(all, h.Do(b))
+		}
+		if kind == 0 {
+			h.Tick()
+		}
+	}
+	return append(all, h.State())
 }

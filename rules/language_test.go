@@ -118,3 +118,26 @@ func checkVariables(t *testing.T, name string, d *ast.GenDecl) {
 		}
 	}
 }
+
+// In the host kinds that are done alike go on into each other, as the document's section Ways asks.
+func TestWays(t *testing.T) {
+	count := 0
+	for _, name := range programFiles(t) {
+		if filepath.Base(filepath.Dir(name)) != "host" {
+			continue
+		}
+		file, err := parser.ParseFile(token.NewFileSet(), name, nil, 0)
+		if err != nil {
+			t.Fatal(err)
+		}
+		ast.Inspect(file, func(n ast.Node) bool {
+			if b, ok := n.(*ast.BranchStmt); ok && b.Tok == token.FALLTHROUGH {
+				count++
+			}
+			return true
+		})
+	}
+	if count == 0 {
+		t.Error("no fallthrough in package host")
+	}
+}
