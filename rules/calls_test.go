@@ -20,6 +20,7 @@ import (
 	"custumal/hmac"
 	"custumal/host"
 	"custumal/journal"
+	"custumal/keep"
 	"custumal/path"
 	"custumal/proof"
 	"custumal/rfclog"
@@ -34,7 +35,7 @@ import (
 	"custumal/wire"
 )
 
-// The calls of layers 1 to 26 have just these signatures; what doesn't have them doesn't build.
+// The calls of layers 1 to 27 have just these signatures; what doesn't have them doesn't build.
 var (
 	_ func(...[]byte) [32]byte         = sha2.Sum
 	_ func() *sha2.Hash                = sha2.New
@@ -358,6 +359,21 @@ var (
 		Signed  []super.Signed
 		Members []super.Member
 	} = host.Parts{}
+
+	_ func(keep.Config) int                                      = keep.Blocks
+	_ func(*disk.Disk, keep.Config) (_ *keep.Store, _ api.Errno) = keep.Format
+	_ func(*disk.Disk, keep.Config) (_ *keep.Store, _ api.Errno) = keep.Open
+	_ func(s *keep.Store, b []byte) []byte                       = (*keep.Store).Do
+	_ func(*keep.Store) api.Errno                                = (*keep.Store).Tick
+	_ func(*keep.Store) *host.Host                               = (*keep.Store).Host
+	_ func(*keep.Store) int                                      = (*keep.Store).Room
+	_ struct {
+		Seed   [32]byte
+		Places int
+		Now    int
+		Common int
+		Each   int
+	} = keep.Config{}
 )
 
 // The kinds of requests have the numbers of the chapter's table (layer 24).
@@ -983,7 +999,8 @@ func TestAnswersHangOnArgumentsAlone(t *testing.T) {
 		all = append(all, tellOfTrees(a, e, f)...)
 		all = append(all, tellOfDirectory(a, e)...)
 		all = append(all, tellOfMany(a, e)...)
-		return append(all, tellOfHost(a, e)...)
+		all = append(all, tellOfHost(a, e)...)
+		return append(all, tellOfStore(a, e)...)
 	}
 	first := tell()
 	TestNoCallPanics(t)
@@ -999,6 +1016,7 @@ func TestAnswersHangOnArgumentsAlone(t *testing.T) {
 	TestNoCallOfSupersPanics(t)
 	TestNoCallOfBytesPanics(t)
 	TestNoCallOfHostsPanics(t)
+	TestNoCallOfStoresPanics(t)
 	for i, b := range tell() {
 		if string(b) != string(first[i]) {
 			t.Errorf("answer %d is another one", i)
