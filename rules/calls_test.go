@@ -16,11 +16,14 @@ import (
 	"custumal/disk"
 	"custumal/edwards"
 	"custumal/extent"
+	"custumal/extract"
+	"custumal/fan"
 	"custumal/field"
 	"custumal/hmac"
 	"custumal/host"
 	"custumal/journal"
 	"custumal/keep"
+	"custumal/monitor"
 	"custumal/path"
 	"custumal/proof"
 	"custumal/rfclog"
@@ -31,11 +34,12 @@ import (
 	"custumal/super"
 	"custumal/tenant"
 	"custumal/tree"
+	"custumal/verify"
 	"custumal/vrf"
 	"custumal/wire"
 )
 
-// The calls of layers 1 to 27 have just these signatures; what doesn't have them doesn't build.
+// The calls of layers 1 to 31 have just these signatures; what doesn't have them doesn't build.
 var (
 	_ func(...[]byte) [32]byte         = sha2.Sum
 	_ func() *sha2.Hash                = sha2.New
@@ -374,6 +378,38 @@ var (
 		Common int
 		Each   int
 	} = keep.Config{}
+
+	_ func(public [32]byte, id, label []byte, a wire.Answer) (verify.Seen, api.Errno) = verify.Look
+	_ func(public [32]byte, id []byte, a wire.Answer) (verify.Seen, api.Errno)        = verify.Stand
+	_ func(from, to int, old [32]byte, a wire.Answer) api.Errno                       = verify.Grow
+	_ struct {
+		Super   int
+		Root    [32]byte
+		Gone    bool
+		Epoch   int
+		Link    [32]byte
+		At      int
+		Index   [32]byte
+		Present bool
+		Version int
+		Value   []byte
+	} = verify.Seen{}
+
+	_ func(public [32]byte, id []byte) *monitor.Monitor                             = monitor.New
+	_ func(m *monitor.Monitor, stand, growth, audit wire.Answer) api.Errno          = (*monitor.Monitor).Watch
+	_ func(*monitor.Monitor) (verify.Seen, bool)                                    = (*monitor.Monitor).Last
+	_ func(m *monitor.Monitor, epochs, epoch int) (growth, audit wire.Request)      = (*monitor.Monitor).Asks
+	_ func(id []byte, a wire.Answer) [][]byte                                       = extract.Look
+	_ func(id []byte, a wire.Answer) [][]byte                                       = extract.Stand
+	_ func(a wire.Answer, to int, sums [][32]byte) [][]byte                         = extract.Log
+	_ func(a, b [][]byte) (x, y []byte, ok bool)                                    = extract.Find
+	_ func(public [32]byte, jobs []fan.Job, workers int) ([]fan.Verdict, api.Errno) = fan.Check
+	_ func(public [32]byte, jobs []fan.Job, workers int) (first int, _ api.Errno)   = fan.First
+	_ struct{ Id, Label, Answer []byte }                                            = fan.Job{}
+	_ struct {
+		Seen verify.Seen
+		Err  api.Errno
+	} = fan.Verdict{}
 )
 
 // The kinds of requests have the numbers of the chapter's table (layer 24).
@@ -1000,7 +1036,8 @@ func TestAnswersHangOnArgumentsAlone(t *testing.T) {
 		all = append(all, tellOfDirectory(a, e)...)
 		all = append(all, tellOfMany(a, e)...)
 		all = append(all, tellOfHost(a, e)...)
-		return append(all, tellOfStore(a, e)...)
+		all = append(all, tellOfStore(a, e)...)
+		return append(all, tellOfClients(a, e)...)
 	}
 	first := tell()
 	TestNoCallPanics(t)
@@ -1017,6 +1054,7 @@ func TestAnswersHangOnArgumentsAlone(t *testing.T) {
 	TestNoCallOfBytesPanics(t)
 	TestNoCallOfHostsPanics(t)
 	TestNoCallOfStoresPanics(t)
+	TestNoCallOfClientsPanics(t)
 	for i, b := range tell() {
 		if string(b) != string(first[i]) {
 			t.Errorf("answer %d is another one", i)

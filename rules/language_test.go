@@ -119,25 +119,55 @@ func checkVariables(t *testing.T, name string, d *ast.GenDecl) {
 	}
 }
 
-// In the host kinds that are done alike go on into each other, as the document's section Ways asks.
-func TestWays(t *testing.T) {
+// checkWay: somewhere in a package there is what a way is made of.
+func checkWay(t *testing.T, name, why string, is func(n ast.Node) bool) {
+	t.Helper()
 	count := 0
-	for _, name := range programFiles(t) {
-		if filepath.Base(filepath.Dir(name)) != "host" {
+	for _, file := range programFiles(t) {
+		if filepath.Base(filepath.Dir(file)) != name {
 			continue
 		}
-		file, err := parser.ParseFile(token.NewFileSet(), name, nil, 0)
+		parsed, err := parser.ParseFile(token.NewFileSet(), file, nil, 0)
 		if err != nil {
 			t.Fatal(err)
 		}
-		ast.Inspect(file, func(n ast.Node) bool {
-			if b, ok := n.(*ast.BranchStmt); ok && b.Tok == token.FALLTHROUGH {
+		ast.Inspect(parsed, func(n ast.Node) bool {
+			if is(n) {
 				count++
 			}
 			return true
 		})
 	}
 	if count == 0 {
-		t.Error("no fallthrough in package host")
+		t.Errorf("no %s in package %s", why, name)
 	}
+}
+
+// both: does a select hand out and take back, and wait for one of them?
+func both(n ast.Node) bool {
+	s, ok := n.(*ast.SelectStmt)
+	if !ok {
+		return false
+	}
+	sends, takes, waits := 0, 0, true
+	for _, c := range s.Body.List {
+		switch c.(*ast.CommClause).Comm.(type) {
+		case *ast.SendStmt:
+			sends++
+		case nil:
+			waits = false
+		default:
+			takes++
+		}
+	}
+	return sends == 1 && takes == 1 && waits
+}
+
+// In the host kinds that are done alike go on into each other; in the fan one goroutine hands out and gathers: as the document's section Ways asks.
+func TestWays(t *testing.T) {
+	checkWay(t, "host", "fallthrough", func(n ast.Node) bool {
+		b, ok := n.(*ast.BranchStmt)
+		return ok && b.Tok == token.FALLTHROUGH
+	})
+	checkWay(t, "fan", "select over both channels", both)
 }
