@@ -30,16 +30,19 @@ import (
 	"custumal/scalar"
 	"custumal/sha2"
 	"custumal/sha5"
+	"custumal/shell"
 	"custumal/sign"
 	"custumal/super"
+	"custumal/survey"
 	"custumal/tenant"
 	"custumal/tree"
 	"custumal/verify"
 	"custumal/vrf"
 	"custumal/wire"
+	"custumal/world"
 )
 
-// The calls of layers 1 to 31 have just these signatures; what doesn't have them doesn't build.
+// The calls of layers 1 to 34 have just these signatures; what doesn't have them doesn't build.
 var (
 	_ func(...[]byte) [32]byte         = sha2.Sum
 	_ func() *sha2.Hash                = sha2.New
@@ -410,6 +413,29 @@ var (
 		Seen verify.Seen
 		Err  api.Errno
 	} = fan.Verdict{}
+
+	_ func(keep.Config, []world.Event) (world.Report, api.Errno) = world.Run
+	_ struct {
+		Kind  int
+		Bytes []byte
+		N     int
+		Keep  []bool
+	} = world.Event{}
+	_ struct {
+		Answers [][]byte
+		Taken   int
+		Refused int
+		Crashes int
+		Twice   int
+		State   []byte
+	} = world.Report{}
+	_ func(script string) string                              = shell.Run
+	_ func(*disk.Disk, keep.Config) ([]survey.Row, api.Errno) = survey.Rows
+	_ func(l []survey.Row, place int) survey.Totals           = survey.Sum
+	_ func([]survey.Row) []int                                = survey.Foul
+	_ func([]survey.Row) string                               = survey.Text
+	_ struct{ Block, Place, Kind, Record int }                = survey.Row{}
+	_ struct{ Empty, Head, Rest, Stray int }                  = survey.Totals{}
 )
 
 // The kinds of requests have the numbers of the chapter's table (layer 24).
@@ -1037,7 +1063,8 @@ func TestAnswersHangOnArgumentsAlone(t *testing.T) {
 		all = append(all, tellOfMany(a, e)...)
 		all = append(all, tellOfHost(a, e)...)
 		all = append(all, tellOfStore(a, e)...)
-		return append(all, tellOfClients(a, e)...)
+		all = append(all, tellOfClients(a, e)...)
+		return append(all, tellOfScripts(a, e)...)
 	}
 	first := tell()
 	TestNoCallPanics(t)
@@ -1055,6 +1082,7 @@ func TestAnswersHangOnArgumentsAlone(t *testing.T) {
 	TestNoCallOfHostsPanics(t)
 	TestNoCallOfStoresPanics(t)
 	TestNoCallOfClientsPanics(t)
+	TestNoCallOfScriptsPanics(t)
 	for i, b := range tell() {
 		if string(b) != string(first[i]) {
 			t.Errorf("answer %d is another one", i)
